@@ -268,6 +268,9 @@ class Whole(unittest.TestCase):
                 self.assertEqual(other.counts((r, j, i)), dance.counts((r, i, j))[::-1])
                 self.assertEqual(other.level((r, j, i)), dance.level((r, i, j)))
                 self.assertEqual(other.behind((r, j, i)), sorted((q, l, k) for q, k, l in dance.behind((r, i, j))))
+            for (r, i, j), (s, k, l) in product(all_meetings(dance)[:9], all_meetings(dance)):
+                self.assertIs(other.ahead((r, j, i), (s, l, k)), dance.ahead((r, i, j), (s, k, l)))
+            self.assertIs(other.is_order([(r, j, i) for r, i, j in sum(dance.levels(), [])]), True)
         swapped = LONG_DANCE.swapped()
         self.assertEqual([swapped.suns, swapped.moons, swapped.rounds], [LONG + 2, LONG, LONG + 4])
         self.assertIs(swapped.above((LONG, 5, 6)), not LONG_DANCE.above((LONG, 6, 5)))
