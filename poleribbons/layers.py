@@ -1,7 +1,7 @@
 """Layers: whether a cloth hangs together, and what can be lifted off if it does not."""
 
 from poleribbons.ribbons import is_ribbon, need_ribbon
-from poleribbons.steps import is_whole, reached, steps_of
+from poleribbons.steps import is_on_top, is_whole, layer_in, layers_in, reached, reached_from_each, steps_of
 
 
 def hangs(dance):
@@ -15,34 +15,18 @@ def reached_from(dance, ribbon):
     return sorted(reached(steps_of(dance), ribbon))
 
 
-def _reaches(steps):
-    """The dict from each ribbon to those that are reached from it."""
-    return {ribbon: reached(steps, ribbon) for ribbon in steps}
-
-
-def _layer(reaches, ribbon):
-    return [other for other in reaches
-            if other == ribbon or other in reaches[ribbon] and ribbon in reaches[other]]
-
-
 def layer_of(dance, ribbon):
     """The ascending list of the ribbons of a ribbon's layer."""
     need_ribbon(dance, ribbon)
-    return _layer(_reaches(steps_of(dance)), ribbon)
-
-
-def _is_free(reaches, layer, layers):
-    """Whether no ribbon of another one of the layers leads to this layer."""
-    return not any([layer[0] in reaches[other[0]] for other in layers if other != layer])
+    return layer_in(reached_from_each(steps_of(dance)), ribbon)
 
 
 def _sorted_layers(reaches):
     """All layers from above downwards; where several could come, that with the least ribbon."""
-    layers = [_layer(reaches, ribbon) for ribbon in reaches]
-    left = [layer for layer, ribbon in zip(layers, reaches) if layer[0] == ribbon]
+    left = layers_in(reaches)
     ordered = []
     while left:
-        top = [layer for layer in left if _is_free(reaches, layer, left)][0]
+        top = [layer for layer in left if is_on_top(reaches, layer, left)][0]
         ordered.append(top)
         left = [layer for layer in left if layer != top]
     return ordered
@@ -50,7 +34,7 @@ def _sorted_layers(reaches):
 
 def layers_of(dance):
     """The list of all layers, each an ascending list, from above downwards."""
-    return _sorted_layers(_reaches(steps_of(dance)))
+    return _sorted_layers(reached_from_each(steps_of(dance)))
 
 
 def is_lot(dance, thing):
@@ -78,7 +62,7 @@ def _closed_choices(reaches, layers):
 
 def lots_of(dance):
     """The list of all lots as ascending lists, those with fewer ribbons first, then the least."""
-    reaches = _reaches(steps_of(dance))
+    reaches = reached_from_each(steps_of(dance))
     layers = _sorted_layers(reaches)
     choices = [choice for choice in _closed_choices(reaches, layers) if any(choice) and not all(choice)]
     lots = [sorted([ribbon for taken, layer in zip(choice, layers) if taken for ribbon in layer])

@@ -9,9 +9,14 @@ def ribbons(dance):
     return [("moon", j) for j in range(dance.moons)] + [("sun", i) for i in range(dance.suns)]
 
 
+def names_ribbon(thing):
+    """Whether thing, any value, is a ribbon of some dance."""
+    return isinstance(thing, tuple) and len(thing) == 2 and is_side(thing[0]) and is_count(thing[1])
+
+
 def is_ribbon(dance, thing):
     """Whether thing, any value, is a ribbon of a Dance."""
-    if not isinstance(thing, tuple) or len(thing) != 2 or not is_side(thing[0]) or not is_count(thing[1]):
+    if not names_ribbon(thing):
         return False
     return thing[1] < (dance.suns if thing[0] == "sun" else dance.moons)
 

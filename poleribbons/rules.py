@@ -41,6 +41,11 @@ def _size(parts):
     return 1 + sum([_size(part) for part in _inner(parts)])
 
 
+def numbers_at(r, i, j, suns, moons):
+    """The dict from each reader to the number that it reads at a meeting."""
+    return {"turns": r * moons + j, "others": r * suns + i, "rounds": r, "suns": i, "moons": j}
+
+
 def _told(parts, numbers):
     """What the parts tell where each reader reads its number."""
     head = parts[0]
@@ -109,8 +114,7 @@ class Rule:
         return self._period
 
     def __call__(self, r, i, j, suns, moons):
-        numbers = {"turns": r * moons + j, "others": r * suns + i, "rounds": r, "suns": i, "moons": j}
-        return _told(self._parts, numbers)
+        return _told(self._parts, numbers_at(r, i, j, suns, moons))
 
     def __eq__(self, other):
         return isinstance(other, Rule) and self._parts == other._parts

@@ -1,17 +1,28 @@
 """Steps: from each ribbon to those that it lies above, as a dict from all ribbons to lists."""
 
-from poleribbons.ribbons import crossings, ribbons
+from poleribbons.ribbons import crossings
 
 
-def steps_of(dance):
-    """The steps of a Dance; ribbons and lists are ascending."""
-    steps = {ribbon: [] for ribbon in ribbons(dance)}
-    for (i, j), text in crossings(dance).items():
+def steps_in(laid):
+    """The steps that crossings tell; ribbons and lists are ascending."""
+    steps = {}
+    for i, j in laid:
+        if i == 0:
+            steps[("moon", j)] = []
+    for i, j in laid:
+        if j == 0:
+            steps[("sun", i)] = []
+    for (i, j), text in laid.items():
         if "1" in text:
             steps[("sun", i)].append(("moon", j))
         if "0" in text:
             steps[("moon", j)].append(("sun", i))
     return steps
+
+
+def steps_of(dance):
+    """The steps of a Dance."""
+    return steps_in(crossings(dance))
 
 
 def turned_steps(steps):
@@ -40,6 +51,28 @@ def is_whole(steps):
     start = list(steps)[0]
     # One ribbon that reaches all, and is reached by all, leads from each to each.
     return len(reached(steps, start)) == len(steps) and len(reached(turned_steps(steps), start)) == len(steps)
+
+
+def reached_from_each(steps):
+    """The dict from each ribbon to those to which one or more steps lead from it."""
+    return {ribbon: reached(steps, ribbon) for ribbon in steps}
+
+
+def layer_in(reaches, ribbon):
+    """The ascending list of the ribbons of a ribbon's layer; reaches are as `reached_from_each` tells them."""
+    return [other for other in reaches
+            if other == ribbon or other in reaches[ribbon] and ribbon in reaches[other]]
+
+
+def layers_in(reaches):
+    """All layers, that with the least ribbon first."""
+    layers = [layer_in(reaches, ribbon) for ribbon in reaches]
+    return [layer for layer, ribbon in zip(layers, reaches) if layer[0] == ribbon]
+
+
+def is_on_top(reaches, layer, layers):
+    """Whether no ribbon of another one of the layers leads to this layer."""
+    return not any([layer[0] in reaches[other[0]] for other in layers if other != layer])
 
 
 def distances(steps, target):

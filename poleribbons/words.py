@@ -19,12 +19,12 @@ def bit_at(early, again, x):
 
 
 def joined(how, one, other):
-    """What two truths make by "and", "or" or "unlike"."""
+    """What two truths, or two integers bit by bit, make by "and", "or" or "unlike"."""
     if how == "and":
-        return one and other
+        return one & other
     if how == "or":
-        return one or other
-    return one != other
+        return one | other
+    return one ^ other
 
 
 def _digit(truth):
@@ -39,12 +39,29 @@ def _first_bits(early, again, many):
     return (early + again * (many // len(again) + 1))[:many]
 
 
-def _least_again(again):
-    """The shortest string of which again is made by repeating it."""
+def bits_from(early, again, start, many):
+    """The string of many bits of the word of these strings, from the bit start on."""
+    if start >= len(early):
+        start = len(early) + (start - len(early)) % len(again)
+    return _first_bits(early, again, start + many)[start:]
+
+
+def least_again(again):
+    """The shortest string, or list, of which again is made by repeating it."""
     for size in range(1, len(again)):
         if again[:size] * (len(again) // size) == again:
             return again[:size]
     return again
+
+
+def least_written(early, again):
+    """The endless row of early and again, two strings or two lists, told with the least lead, and then period."""
+    again = least_again(again)
+    # A last early member that again ends in belongs to the turning part, turned back by one.
+    while len(early) > 0 and early[-1] == again[-1]:
+        again = again[-1:] + again[:-1]
+        early = early[:-1]
+    return (early, again)
 
 
 def _joined_word(how, one, other):
@@ -111,12 +128,7 @@ class Word:
 
     def plain(self):
         """The Word of the same bits with the least lead, and for this the least period."""
-        early = self._early
-        again = _least_again(self._again)
-        # A last early bit that again ends in belongs to the turning part, turned back by one.
-        while early.endswith(again[-1]):
-            again = again[-1] + again[:-1]
-            early = early[:-1]
+        early, again = least_written(self._early, self._again)
         return Word(early, again)
 
     def same(self, other):

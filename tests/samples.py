@@ -50,3 +50,19 @@ RULES = [
     Rule.by("rounds", Word("0", "1")) & suns("1", "0") & moons("0", "1"),
     suns("", "10") & Rule.by("rounds", Word("0", "1")) | moons("1", "0"),
 ]
+
+# Rules of which all numbers are asked: their lead is at most 2, their period at most 4.
+FORALL_RULES = [rule for rule in RULES if rule.lead <= 2 and rule.period <= 4] + [
+    turns("10", "0110"), turns("", "1000"), Rule.by("others", Word("", "1100")) ^ suns("", "10"),
+    Rule.by("rounds", Word("1", "0010")) | moons("01", "10"), turns("01", "001") & ~Rule.by("others", Word("", "110")),
+    ~(suns("01", "10") ^ moons("1", "0")), turns("", "1010") ^ Rule.by("rounds", Word("01", "1")),
+    turns("00", "1") & ~Rule.by("others", Word("", "1")) | suns("", "0111") & moons("1", "0"),
+    suns("1", "1000") & ~moons("0", "0100") | Rule.by("rounds", Word("00", "1")) & suns("0", "1"),
+]
+
+# Rules of which classes are asked, too: their lead is at most 6, their period at most 12.
+WIDE_RULES = RULES + [
+    turns("110100", "100101"), Rule.by("others", Word("0", "110")) ^ suns("01011", "0110"),
+    turns("1", "0") | moons("010101", "110100101100"), Rule.by("rounds", Word("011010", "010000110101")) & suns("", "1"),
+    turns("0110", "110") ^ Rule.by("others", Word("10", "1000")) ^ Rule.by("rounds", Word("000001", "01")),
+]
