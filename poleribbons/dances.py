@@ -5,6 +5,13 @@ from poleribbons.kinds import is_count, is_number
 from poleribbons.rules import Rule
 
 
+def names_meeting(suns, moons, rounds, thing):
+    """Whether thing, any value, is a meeting of a dance of these numbers."""
+    if not isinstance(thing, tuple) or len(thing) != 3 or not all([is_count(number) for number in thing]):
+        return False
+    return thing[0] < rounds and thing[1] < suns and thing[2] < moons
+
+
 class Dance:
     """All meetings (r, i, j) of the sun dancers i and the moon dancers j in the rounds r."""
 
@@ -45,9 +52,7 @@ class Dance:
 
     def is_meeting(self, thing):
         """Whether thing, any value, is a meeting of the dance."""
-        if not isinstance(thing, tuple) or len(thing) != 3 or not all([is_count(number) for number in thing]):
-            return False
-        return thing[0] < self._rounds and thing[1] < self._suns and thing[2] < self._moons
+        return names_meeting(self._suns, self._moons, self._rounds, thing)
 
     def _need_meeting(self, thing):
         if not self.is_meeting(thing):

@@ -63,6 +63,6 @@ FORALL_RULES = [rule for rule in RULES if rule.lead <= 2 and rule.period <= 4] +
 # Rules of which classes are asked, too: their lead is at most 6, their period at most 12.
 WIDE_RULES = RULES + [
     turns("110100", "100101"), Rule.by("others", Word("0", "110")) ^ suns("01011", "0110"),
-    turns("1", "0") | moons("010101", "110100101100"), Rule.by("rounds", Word("011010", "010000110101")) & suns("", "1"),
+    turns("1", "0") | moons("010101", "110100101100"), suns("", "1") & Rule.by("rounds", Word("01101", "010000110101")),
     turns("0110", "110") ^ Rule.by("others", Word("10", "1000")) ^ Rule.by("rounds", Word("000001", "01")),
 ]

@@ -272,6 +272,9 @@ class Least(unittest.TestCase):
         self.assertIsNone(least_apart(Rule.by("rounds", Word("", "01")), rounds=2))
 
     def test_each_number_may_be_left_out(self):
+        self.assertEqual(least_whole(suns("", "10") ^ moons("", "10")), (2, 2, 1))
+        self.assertEqual(least_whole(suns("", "10") ^ moons("", "10"), suns=3), (3, 2, 1))
+        self.assertEqual(least_apart(suns("", "10") ^ moons("", "10"), suns=2, rounds=5), (2, 1, 5))
         rule = Rule.by("rounds", Word("00", "10"))
         self.assertEqual(least_whole(rule), (1, 1, 3))
         self.assertEqual(least_whole(rule, suns=5), (5, 1, 3))

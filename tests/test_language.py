@@ -10,8 +10,8 @@ FILES = sorted(PACKAGE.glob("*.py"))
 LIBRARY = {"math": {"gcd", "lcm", "isqrt", "comb", "perm", "factorial"}}
 BUILTINS = {
     "len", "range", "enumerate", "zip", "min", "max", "sum", "abs", "sorted", "reversed", "int", "str", "bool", "list",
-    "tuple", "dict", "set", "isinstance", "ord", "repr", "any", "all", "divmod", "ValueError", "KeyError", "property",
-    "staticmethod", "NotImplemented", "True", "False", "None"}
+    "tuple", "dict", "set", "isinstance", "iter", "ord", "repr", "any", "all", "divmod", "ValueError", "KeyError",
+    "property", "staticmethod", "NotImplemented", "True", "False", "None"}
 OF_PYTHON = {name for name in dir(builtins) if not name.startswith("_")}
 TAKE_LISTS = {"any", "all", "min", "max", "sum", "sorted"}
 BARRED = (ast.AsyncFunctionDef, ast.Global, ast.Import, ast.Div, ast.TryStar)
@@ -70,6 +70,23 @@ class Language(unittest.TestCase):
                     self.assertIn(node.id, BUILTINS, path.name)
                 if isinstance(node, ast.Call) and isinstance(node.func, ast.Name) and node.func.id in TAKE_LISTS:
                     self.assertFalse(any(isinstance(part, ast.GeneratorExp) for part in node.args), path.name)
+
+    def test_no_file_imports_from_one_that_imports_from_it(self):
+        imports = {}
+        for path in FILES:
+            found = [node.module for node in ast.parse(path.read_text()).body if isinstance(node, ast.ImportFrom)]
+            imports[path.stem] = {name.split(".")[1] for name in found if name.startswith("poleribbons.")}
+        while imports:
+            free = [name for name in imports if not imports[name] & set(imports)]
+            self.assertNotEqual(free, [])
+            imports = {name: imports[name] for name in imports if name not in free}
+
+    def test_powers_and_sorting_in_place_are_not_used(self):
+        for path in FILES:
+            for node in ast.walk(ast.parse(path.read_text())):
+                self.assertNotIsInstance(node, ast.Pow, path.name)
+                if isinstance(node, ast.Attribute):
+                    self.assertNotEqual(node.attr, "sort", path.name)
 
     def test_no_name_is_that_of_a_builtin_or_an_import(self):
         for path in FILES:
