@@ -27,7 +27,9 @@ def steps_of(dance):
 
 def turned_steps(steps):
     """The steps the other way round: from each ribbon to those that lie above it."""
-    turned = {ribbon: [] for ribbon in steps}
+    turned = {}
+    for ribbon in steps:
+        turned[ribbon] = []
     for ribbon, nexts in steps.items():
         for other in nexts:
             turned[other].append(ribbon)
