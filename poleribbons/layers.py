@@ -52,7 +52,7 @@ def _closed_choices(reaches, layers):
     choices = [[]]
     for layer in layers:
         grown = [without + [False] for without in choices]
-        for choice in choices:
+        for choice in list(choices):
             # What leads to a layer stands ahead of it, so it is decided already.
             if all([taken or layer[0] not in reaches[other[0]] for taken, other in zip(choice, layers)]):
                 grown.append(choice + [True])
