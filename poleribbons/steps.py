@@ -84,7 +84,7 @@ def distances(steps, target):
     edge = [target]
     while edge:
         further = []
-        for at in edge:
+        for at in list(edge):
             for before in backwards[at]:
                 if before not in far:
                     far[before] = far[at] + 1

@@ -14,6 +14,9 @@ BUILTINS = {
     "property", "staticmethod", "NotImplemented", "True", "False", "None"}
 OF_PYTHON = {name for name in dir(builtins) if not name.startswith("_")}
 TAKE_LISTS = {"any", "all", "min", "max", "sum", "sorted"}
+WALKS = {"enumerate", "zip", "reversed"}
+VIEWS = {"items", "keys", "values"}
+CHANGING = {"append", "clear", "extend", "insert", "pop", "remove", "reverse", "setdefault", "update"}
 BARRED = (ast.AsyncFunctionDef, ast.Global, ast.Import, ast.Div, ast.TryStar)
 
 
@@ -26,6 +29,46 @@ def bound_names(tree):
             yield node.arg
         elif isinstance(node, ast.Name) and isinstance(node.ctx, ast.Store):
             yield node.id
+
+
+def row_of(node):
+    """The name or attribute that is read, behind indexes and in choices, as a set of texts."""
+    if isinstance(node, ast.IfExp):
+        return row_of(node.body) | row_of(node.orelse)
+    if isinstance(node, ast.BoolOp):
+        return set().union(*[row_of(part) for part in node.values])
+    if isinstance(node, ast.Call) and isinstance(node.func, ast.Name) and node.func.id in WALKS:
+        return set().union(*[row_of(part) for part in node.args])
+    if isinstance(node, ast.Call) and isinstance(node.func, ast.Attribute) and node.func.attr in VIEWS:
+        return row_of(node.func.value)
+    if isinstance(node, ast.Subscript):
+        return row_of(node.value)
+    return {ast.unparse(node)} if isinstance(node, (ast.Name, ast.Attribute)) else set()
+
+
+def changed_in(nodes):
+    """The texts of all that is changed by a method, an item or `del` in these nodes."""
+    found = set()
+    for node in [part for start in nodes for part in ast.walk(start)]:
+        if isinstance(node, ast.Call) and isinstance(node.func, ast.Attribute) and node.func.attr in CHANGING:
+            found |= row_of(node.func.value)
+        if isinstance(node, ast.Subscript) and not isinstance(node.ctx, ast.Load):
+            found |= row_of(node)
+    return found
+
+
+def names_of_one_list(function):
+    """The dict from each text to all that may mean the same list by plain assignments."""
+    groups = {}
+    for node in ast.walk(function):
+        if isinstance(node, ast.Assign):
+            group = row_of(node.value) if not isinstance(node.value, (ast.Call, ast.Subscript)) else set()
+            for target in node.targets:
+                group = group | row_of(target) if isinstance(target, (ast.Name, ast.Attribute)) else group
+            for text in list(group):
+                group = group | groups.get(text, set())
+            groups.update({text: group for text in group})
+    return groups
 
 
 class Language(unittest.TestCase):
@@ -105,6 +148,17 @@ class Language(unittest.TestCase):
                         marked = [mark.id for mark in part.decorator_list]
                         (properties if "property" in marked else methods).add(part.name)
         self.assertEqual(properties & methods, set())
+
+    def test_no_loop_changes_what_it_walks(self):
+        for path in FILES:
+            for function in ast.walk(ast.parse(path.read_text())):
+                if isinstance(function, ast.FunctionDef):
+                    groups = names_of_one_list(function)
+                    for loop in ast.walk(function):
+                        if isinstance(loop, ast.For):
+                            walked = row_of(loop.iter)
+                            walked = walked.union(*[groups.get(text, set()) for text in walked])
+                            self.assertEqual(walked & changed_in(loop.body), set(), (path.name, loop.lineno))
 
 
 if __name__ == "__main__":
