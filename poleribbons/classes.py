@@ -1,13 +1,12 @@
 """Classes: of numbers of any length a rule tells no more than few kinds apart, for each of which one number stands."""
 
 from poleribbons.grids import grid
+from poleribbons.words import place_of
 
 
 def class_of(rule, number):
     """The class of a number from 0 on: the least number that the rule does not tell from it."""
-    if number < rule.lead:
-        return number
-    return rule.lead + (number - rule.lead) % rule.period
+    return place_of(rule.lead, rule.period, number)
 
 
 def classes(rule, many):

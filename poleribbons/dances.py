@@ -12,6 +12,11 @@ def names_meeting(suns, moons, rounds, thing):
     return thing[0] < rounds and thing[1] < suns and thing[2] < moons
 
 
+def all_meetings(suns, moons, rounds):
+    """The ascending list of all meetings of a dance of these numbers."""
+    return [(r, i, j) for r in range(rounds) for i in range(suns) for j in range(moons)]
+
+
 class Dance:
     """All meetings (r, i, j) of the sun dancers i and the moon dancers j in the rounds r."""
 
@@ -60,7 +65,7 @@ class Dance:
 
     def meetings(self):
         """The ascending list of all meetings."""
-        return [(r, i, j) for r in range(self._rounds) for i in range(self._suns) for j in range(self._moons)]
+        return all_meetings(self._suns, self._moons, self._rounds)
 
     def size(self):
         """How many meetings there are."""

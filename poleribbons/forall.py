@@ -7,7 +7,7 @@ from poleribbons.rules import Rule
 from poleribbons.steps import is_on_top, is_whole, layers_in, reached_from_each, steps_in
 
 
-def _steps_at(rule, suns, moons, rounds):
+def steps_at(rule, suns, moons, rounds):
     """The steps between the classes of ribbons; each ribbon of a class has the steps of its class."""
     return steps_in(class_crossings(rule, suns, moons, rounds))
 
@@ -15,14 +15,14 @@ def _steps_at(rule, suns, moons, rounds):
 def hangs_at(rule, suns, moons, rounds):
     """Whether the cloth hangs together."""
     # A way from a class back to itself leads from each of its ribbons to each.
-    return is_whole(_steps_at(rule, suns, moons, rounds))
+    return is_whole(steps_at(rule, suns, moons, rounds))
 
 
 def layers_at(rule, suns, moons, rounds):
     """How many layers the cloth has."""
     many = {"sun": members(rule, suns), "moon": members(rule, moons)}
     total = 0
-    for layer in layers_in(reached_from_each(_steps_at(rule, suns, moons, rounds))):
+    for layer in layers_in(reached_from_each(steps_at(rule, suns, moons, rounds))):
         side, kind = layer[0]
         # No step leads to the own side, so the ribbons of a class by itself are a layer each.
         total = total + (1 if len(layer) > 1 else many[side][kind])
@@ -31,7 +31,7 @@ def layers_at(rule, suns, moons, rounds):
 
 def lot_at(rule, suns, moons, rounds):
     """The least of the shortest lists of classes whose ribbons are a lot, None if the cloth hangs together."""
-    reaches = reached_from_each(_steps_at(rule, suns, moons, rounds))
+    reaches = reached_from_each(steps_at(rule, suns, moons, rounds))
     layers = layers_in(reaches)
     if len(layers) == 1:
         return None
@@ -53,7 +53,7 @@ def is_lot_at(rule, suns, moons, rounds, thing):
     """Whether thing, any value, is a list of classes, each once, whose ribbons are a lot."""
     if not _are_classes(rule, suns, moons, thing):
         return False
-    steps = _steps_at(rule, suns, moons, rounds)
+    steps = steps_at(rule, suns, moons, rounds)
     if len(thing) == 0 or len(thing) == len(steps):
         return False
     return not any([below in thing for kind in steps if kind not in thing for below in steps[kind]])

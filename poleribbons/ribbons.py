@@ -83,6 +83,13 @@ def _is_pair(thing):
     return isinstance(thing, tuple) and len(thing) == 2 and is_count(thing[0]) and is_count(thing[1])
 
 
+def numbers_of(laid):
+    """The tuple of the numbers of sun dancers, moon dancers and rounds of crossings."""
+    suns = max([i for i, _ in laid]) + 1
+    moons = max([j for _, j in laid]) + 1
+    return (suns, moons, len(list(laid.values())[0]))
+
+
 def are_crossings(thing):
     """Whether thing, any value, is a dict that is the crossings of some dance."""
     if not isinstance(thing, dict) or len(thing) == 0 or not all([_is_pair(key) for key in thing]):
@@ -90,6 +97,5 @@ def are_crossings(thing):
     texts = list(thing.values())
     if not all([are_bits(text) for text in texts]) or len(set([len(text) for text in texts])) > 1:
         return False
-    suns = max([i for i, _ in thing]) + 1
-    moons = max([j for _, j in thing]) + 1
-    return len(thing) == suns * moons and texts[0] != ""
+    suns, moons, rounds = numbers_of(thing)
+    return len(thing) == suns * moons and rounds > 0

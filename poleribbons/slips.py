@@ -2,7 +2,7 @@
 
 from poleribbons.dances import names_meeting
 from poleribbons.errors import NoMeeting, NoSlip
-from poleribbons.ribbons import are_crossings, crossings
+from poleribbons.ribbons import are_crossings, crossings, numbers_of
 from poleribbons.steps import is_whole, steps_in
 
 
@@ -24,9 +24,7 @@ def slipped(dance, meeting):
 
 def _are_crossings_of(dance, thing):
     """Whether thing, any value, is the crossings of some dance of the same numbers."""
-    if not are_crossings(thing) or len(thing) != dance.suns * dance.moons:
-        return False
-    return (dance.suns - 1, dance.moons - 1) in thing and len(thing[(0, 0)]) == dance.rounds
+    return are_crossings(thing) and numbers_of(thing) == (dance.suns, dance.moons, dance.rounds)
 
 
 def slip_of(dance, thing):

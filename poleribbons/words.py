@@ -11,6 +11,13 @@ def are_again(thing):
     return are_bits(thing) and thing != ""
 
 
+def place_of(lead, period, x):
+    """The place, in early and again written one behind the other, of the character that tells the bit x."""
+    if x < lead:
+        return x
+    return lead + (x - lead) % period
+
+
 def bit_at(early, again, x):
     """Whether the bit x of the word of these strings is 1."""
     if x < len(early):
@@ -41,9 +48,8 @@ def _first_bits(early, again, many):
 
 def bits_from(early, again, start, many):
     """The string of many bits of the word of these strings, from the bit start on."""
-    if start >= len(early):
-        start = len(early) + (start - len(early)) % len(again)
-    return _first_bits(early, again, start + many)[start:]
+    place = place_of(len(early), len(again), start)
+    return _first_bits(early, again, place + many)[place:]
 
 
 def least_again(again):

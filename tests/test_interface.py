@@ -35,6 +35,13 @@ FUNCTIONS = {
     "slips": ["slipped(dance, meeting)", "slip_of(dance, thing)", "to_undo(dance, meetings)",
               "undo_many(suns, moons, rounds, meeting)", "harm(dance)"],
     "programmes": ["Programme(suns, moons, acts)"],
+    "tellback": ["are_forms(thing)", "joined_rule(forms, words)", "told_back(crossings, forms)",
+                 "refusal(crossings, forms)", "many_told(crossings, forms)", "is_refusal(crossings, forms, thing)"],
+    "counts": ["many_cloths(forms, suns, moons, rounds)", "cloth_bits(crossings)",
+               "nth_cloth(forms, suns, moons, rounds, number)", "cloth_number(forms, crossings)"],
+    "free": ["free_ribbons(dance)", "lifting(dance)", "kernel_of(dance)", "is_lifting(dance, thing)",
+             "free_at(rule, suns, moons, rounds)", "many_free_at(rule, suns, moons, rounds)"],
+    "sooner": ["sooner(rule, suns, moons)", "growth(rule, suns, moons)", "whole_level(dance)"],
 }
 
 METHODS = {
