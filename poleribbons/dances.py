@@ -5,11 +5,16 @@ from poleribbons.kinds import is_count, is_number
 from poleribbons.rules import Rule
 
 
-def names_meeting(suns, moons, rounds, thing):
-    """Whether thing, any value, is a meeting of a dance of these numbers."""
+def names_endless_meeting(suns, moons, thing):
+    """Whether thing, any value, is a meeting of a dance of so many dancers, with rounds without end."""
     if not isinstance(thing, tuple) or len(thing) != 3 or not all([is_count(number) for number in thing]):
         return False
-    return thing[0] < rounds and thing[1] < suns and thing[2] < moons
+    return thing[1] < suns and thing[2] < moons
+
+
+def names_meeting(suns, moons, rounds, thing):
+    """Whether thing, any value, is a meeting of a dance of these numbers."""
+    return names_endless_meeting(suns, moons, thing) and thing[0] < rounds
 
 
 def all_meetings(suns, moons, rounds):

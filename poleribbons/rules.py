@@ -13,16 +13,16 @@ JOINS = ("and", "or", "unlike")
 SWAPPED_READERS = {"turns": "others", "others": "turns", "rounds": "rounds", "suns": "moons", "moons": "suns"}
 
 
-def _are_parts(thing):
+def are_parts(thing):
     """Whether thing, any value, is the parts of a rule."""
     if not isinstance(thing, tuple) or len(thing) not in (2, 3):
         return False
     head = thing[0]
     if len(thing) == 2:
-        return head == "always" and is_truth(thing[1]) or head == "not" and _are_parts(thing[1])
+        return head == "always" and is_truth(thing[1]) or head == "not" and are_parts(thing[1])
     if is_reader(head):
         return are_bits(thing[1]) and are_again(thing[2])
-    return head in JOINS and _are_parts(thing[1]) and _are_parts(thing[2])
+    return head in JOINS and are_parts(thing[1]) and are_parts(thing[2])
 
 
 def _inner(parts):
@@ -99,7 +99,7 @@ class Rule:
     @staticmethod
     def of(parts):
         """The Rule that has these parts."""
-        if not _are_parts(parts):
+        if not are_parts(parts):
             raise NoRule(parts)
         return Rule(parts)
 

@@ -1,4 +1,4 @@
-"""The names, arguments and places of definition that the document's interface lists, for what has landed."""
+"""The names, arguments and places of definition that the document's interface lists."""
 
 import importlib
 import inspect
@@ -42,6 +42,12 @@ FUNCTIONS = {
     "free": ["free_ribbons(dance)", "lifting(dance)", "kernel_of(dance)", "is_lifting(dance, thing)",
              "free_at(rule, suns, moons, rounds)", "many_free_at(rule, suns, moons, rounds)"],
     "sooner": ["sooner(rule, suns, moons)", "growth(rule, suns, moons)", "whole_level(dance)"],
+    "evening": ["Evening(suns, moons, rule)"],
+    "notation": ["show_word(word)", "show_rule(rule)", "show_meeting(meeting)", "show_dance(dance)", "show_heap(heap)",
+                 "show_crossings(crossings)", "show_programme(programme)", "show_deed(deed)", "show_log(evening)"],
+    "readers": ["read_word(text)", "read_rule(text)", "read_meeting(text)", "read_dance(text)", "read_heap(text)",
+                "read_crossings(text)", "read_programme(text)", "read_deed(text)", "read_log(suns, moons, rule, text)"],
+    "desk": ["Desk(suns, moons, rule)"],
 }
 
 METHODS = {
@@ -55,18 +61,23 @@ METHODS = {
     "heaps.Heap": ["levels()", "firsts()", "lasts()", "pieces_of(ribbon)", "is_order(thing)", "orders()",
                    "swapped()"],
     "programmes.Programme": ["acts()", "needless()", "least()", "heap()", "turned()"],
+    "evening.Evening": ["laid()", "can()", "ends()", "log()", "above(meeting)", "needed(meeting)", "do(deed)", "undo()",
+                        "redo()", "finish(rounds)", "rounds_laid()", "heap()", "holds()", "past(many)", "copied()",
+                        "trial(act)"],
+    "desk.Desk": ["execute(line)"],
 }
 
 SIGNS = {
     "words.Word": "eq invert and or xor", "rules.Rule": "eq invert and or xor", "dances.Dance": "eq",
     "forall.When": "eq", "pictures.Colours": "eq", "heaps.Heap": "eq len iter contains mul pow invert",
-    "programmes.Programme": "eq len add",
+    "programmes.Programme": "eq len add", "evening.Evening": "eq len iter",
 }
 
 PROPERTIES = {
     "words.Word": ["early", "again", "lead", "period"], "rules.Rule": ["lead", "period"],
     "dances.Dance": ["suns", "moons", "rounds", "rule"], "forall.When": ["rule"],
     "pictures.Colours": ["suns", "moons"], "programmes.Programme": ["suns", "moons"],
+    "evening.Evening": ["suns", "moons", "first", "rule"],
 }
 
 
