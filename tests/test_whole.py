@@ -1,4 +1,7 @@
-"""What the document promises over the whole program: its points 3 to 10."""
+"""What the document promises over the whole program: its points 3 and 4, and the guarantees 5, 7 and 8.
+
+The guarantees 6, 9 and 10 are tested beside what they speak of, in the tests of those files.
+"""
 
 import copy
 import inspect
